@@ -1,0 +1,1 @@
+"""A queue's order: priorities with aging, needs, freezes and windows."""
