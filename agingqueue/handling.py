@@ -1,6 +1,6 @@
 """The calls that take items in and hand them out: add, order, serve."""
 
-from agingqueue.ready import in_order, ready_items
+from agingqueue.ready import numbers_in_order, ready_items
 from agingqueue.refusals import BAD_ROW, NO_REFUSAL, NO_SUCH_ITEM, NUMBER_TAKEN, OUT_OF_RANGE, TOO_MUCH
 from agingqueue.state import LAST_GROUP, MOST_TIME, Item, count_unended
 
@@ -41,8 +41,8 @@ def are_needs(needs):
 
 
 def order(queue):
-    items = in_order(ready_items(queue), queue.limit)
-    return [len(items)] + [item.number for item in items]
+    numbers = numbers_in_order(queue)
+    return [len(numbers)] + numbers
 
 
 def serve(queue, most):
@@ -50,9 +50,8 @@ def serve(queue, most):
         return [OUT_OF_RANGE]
     if queue.time >= MOST_TIME:
         return [TOO_MUCH]
-    ready = ready_items(queue)
-    served = [item.number for item in in_order(ready, queue.limit)[:most]]
-    count_passed(ready, served)
+    served = numbers_in_order(queue)[:most]
+    count_passed(ready_items(queue), served)
     queue.waiting = [number for number in queue.waiting if number not in served]
     queue.running.extend(served)
     queue.time = queue.time + 1

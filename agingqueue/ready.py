@@ -7,9 +7,9 @@ def is_frozen(queue, group):
     return queue.frozen.get(group, False) or queue.frozen.get(EVERYTHING, False)
 
 
-def is_within_hours(queue, group):
+def is_within_hours(queue, group, time):
     pairs = queue.windows.get(group, [])
-    hour = queue.time % queue.day
+    hour = time % queue.day
     return len(pairs) == 0 or any([pair[0] <= hour < pair[1] for pair in pairs])
 
 
@@ -18,7 +18,7 @@ def has_landed(queue, number):
 
 
 def is_ready(queue, item):
-    if is_frozen(queue, item.group) or not is_within_hours(queue, item.group):
+    if is_frozen(queue, item.group) or not is_within_hours(queue, item.group, queue.time):
         return False
     return all([has_landed(queue, need) for need in item.needs])
 
@@ -39,3 +39,7 @@ def in_order(items, limit):
     others = [item for item in items if item.passed < limit]
     # sorted leaves items of the same priority as they came.
     return overdue + sorted(others, key=lower_for_greater_prio)
+
+
+def numbers_in_order(queue):
+    return [item.number for item in in_order(ready_items(queue), queue.limit)]

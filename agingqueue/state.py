@@ -5,7 +5,10 @@ EVERYTHING = -1
 LAST_GROUP = 7
 MOST_TIME = 1000000
 
-LANDED = 1
+# How an item ended, told by the number that why answers then.
+LANDED = 7
+REJECTED = 8
+WITHDRAWN = 9
 
 
 class Item:

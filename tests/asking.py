@@ -1,10 +1,9 @@
 """Helpers of the tests: write calls by name, and read their answers apart."""
 
-from agingqueue.handling import add as add_item
 from agingqueue.queue import answers
 from agingqueue.queue import answer_next
 from agingqueue.reading import Reader
-from agingqueue.state import LANDED, Queue
+from agingqueue.state import Queue
 
 FAR = 10 ** 18
 ALL = -1
@@ -42,6 +41,34 @@ def serve(k):
     return [7, k]
 
 
+def outcome(number, ok):
+    return [8, number, ok]
+
+
+def again(number):
+    return [9, number]
+
+
+def withdraw(number):
+    return [10, number]
+
+
+def why(number):
+    return [11, number]
+
+
+def place(number):
+    return [12, number]
+
+
+def next_open(group):
+    return [13, group]
+
+
+def status():
+    return [14]
+
+
 def split(told):
     """The answers apart; fails where the counts don't fit."""
     apart = []
@@ -73,6 +100,13 @@ def tell(queue, call):
     return answer_next(queue, Reader(call))
 
 
+def queue_after(*calls):
+    queue = Queue()
+    for call in calls:
+        tell(queue, call)
+    return queue
+
+
 def snapshot(queue):
     """All that the queue keeps, as values that don't change with it."""
     kept = dict(vars(queue))
@@ -84,12 +118,7 @@ def queue_with_ended(count):
     """A queue on which so many items were added and landed, from number 0 on."""
     queue = Queue()
     for number in range(count):
-        if add_item(queue, number, 0, 0, []) != [1]:
-            raise AssertionError("item %d was not added" % number)
-        land(queue, number)
+        told = [tell(queue, call) for call in (add(number), serve(1), outcome(number, 1))]
+        if told != [[1], [1, number], [number + 1]]:
+            raise AssertionError("item %d was not added, served and landed" % number)
     return queue
-
-
-def land(queue, number):
-    queue.waiting.remove(number)
-    queue.ended[number] = LANDED

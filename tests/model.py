@@ -11,7 +11,8 @@ def within(number, low, high):
 
 class Model:
     def __init__(self):
-        self.limit, self.day, self.time, self.came = 3, 24, 0, 0
+        self.limit, self.day, self.time = 3, 24, 0
+        self.came, self.came_back = 0, 0
         self.windows = [[] for group in range(8)]
         self.frozen_groups, self.frozen_all = set(), False
         self.items = []
@@ -19,17 +20,30 @@ class Model:
     def standing(self, *states):
         return [item for item in self.items if item["state"] in states]
 
+    def item(self, number, *states):
+        for item in self.standing(*states):
+            if item["number"] == number:
+                return item
+        return None
+
     def landed(self):
         return {item["number"] for item in self.standing("landed")}
 
+    def hours(self, group):
+        if not self.windows[group]:
+            return set(range(self.day))
+        return {hour for first, behind in self.windows[group] for hour in range(first, behind)}
+
+    def hour(self):
+        return self.time - self.time // self.day * self.day
+
+    def frozen(self, group):
+        return self.frozen_all or group in self.frozen_groups
+
     def ready(self):
-        hour = self.time - self.time // self.day * self.day
         found = []
         for item in self.standing("waits"):
-            hours = {h for first, behind in self.windows[item["group"]] for h in range(first, behind)}
-            if self.frozen_all or item["group"] in self.frozen_groups:
-                continue
-            if self.windows[item["group"]] and hour not in hours:
+            if self.frozen(item["group"]) or self.hour() not in self.hours(item["group"]):
                 continue
             if set(item["needs"]) <= self.landed():
                 found.append(item)
@@ -121,3 +135,59 @@ class Model:
             item["state"] = "runs"
         self.time += 1
         return [len(served), *[item["number"] for item in served]]
+
+    def outcome(self, number, ok):
+        if not within(ok, 0, 1):
+            return [-1]
+        item = self.item(number, "runs")
+        if item is None:
+            return [-6]
+        item["state"] = ("rejected", "landed")[ok]
+        return [len(self.standing("landed", "rejected", "withdrawn"))]
+
+    def again(self, number):
+        item = self.item(number, "runs")
+        if item is None:
+            return [-6]
+        self.came_back -= 1
+        item["state"], item["came"] = "waits", self.came_back
+        return [len(self.standing("waits"))]
+
+    def withdraw(self, number):
+        item = self.item(number, "waits")
+        if item is None:
+            return [-6]
+        item["state"] = "withdrawn"
+        return [len(self.standing("waits"))]
+
+    def why(self, number):
+        item = self.item(number, "waits")
+        if item is None:
+            for state, told in (("runs", 6), ("landed", 7), ("rejected", 8), ("withdrawn", 9)):
+                if self.item(number, state):
+                    return [told]
+            return [-6]
+        for told, states in ((5, ("rejected", "withdrawn")), (4, ("waits", "runs"))):
+            needs = [need for need in item["needs"] if self.item(need, *states)]
+            if needs:
+                return [told, len(needs), *needs]
+        if self.frozen(item["group"]):
+            return [2]
+        if self.hour() not in self.hours(item["group"]):
+            return [3]
+        return [1, item["passed"]]
+
+    def place(self, number):
+        for before, item in enumerate(self.ordered()):
+            if item["number"] == number:
+                return [before]
+        return [-6]
+
+    def next_open(self, group):
+        if not within(group, 0, 7):
+            return [-1]
+        return [min((hour - self.hour()) % self.day for hour in self.hours(group))]
+
+    def status(self):
+        counts = [len(self.standing(state)) for state in ("waits", "runs", "landed")]
+        return [self.limit, self.day, self.time, *counts, len(self.standing("rejected", "withdrawn"))]

@@ -2,8 +2,7 @@
 
 import unittest
 
-from asking import FAR, add, ask, freeze, land, last, order, queue_with_ended, serve, snapshot, tell
-from agingqueue.state import Queue
+from asking import FAR, add, ask, freeze, last, order, outcome, queue_with_ended, serve, snapshot, tell, withdraw
 
 
 class AddTest(unittest.TestCase):
@@ -62,7 +61,9 @@ class AddTest(unittest.TestCase):
         self.assertEqual(last(add(1), serve(1), add(1)), [-9])
 
     def test_number_that_ended(self):
-        self.assertEqual(tell(queue_with_ended(5), add(4)), [-9])
+        self.assertEqual(last(add(1), serve(1), outcome(1, 1), add(1)), [-9])
+        self.assertEqual(last(add(1), serve(1), outcome(1, 0), add(1)), [-9])
+        self.assertEqual(last(add(1), withdraw(1), add(1)), [-9])
 
     def test_need_that_never_was(self):
         self.assertEqual(last(add(50, 0, 0, [1])), [-6])
@@ -73,7 +74,9 @@ class AddTest(unittest.TestCase):
 
     def test_need_that_runs_or_ended(self):
         self.assertEqual(last(add(1), serve(1), add(50, 0, 0, [1])), [1])
-        self.assertEqual(tell(queue_with_ended(5), add(50, 0, 0, [4])), [1])
+        self.assertEqual(last(add(1), serve(1), outcome(1, 1), add(50, 0, 0, [1])), [1])
+        self.assertEqual(last(add(1), serve(1), outcome(1, 0), add(50, 0, 0, [1])), [1])
+        self.assertEqual(last(add(1), withdraw(1), add(50, 0, 0, [1])), [1])
 
     def test_item_that_was_refused_never_was(self):
         self.assertEqual(last(add(1, 10), add(2, 0, 0, [1])), [-6])
@@ -92,12 +95,10 @@ class AddTest(unittest.TestCase):
         self.assertEqual(last(*forty[:39], serve(39), add(40)), [1])
 
     def test_ended_items_leave_room(self):
-        queue = Queue()
-        for number in range(40):
-            tell(queue, add(number))
-        self.assertEqual(tell(queue, add(40)), [-7])
-        land(queue, 0)
-        self.assertEqual(tell(queue, add(40)), [40])
+        forty = [add(number) for number in range(40)]
+        self.assertEqual(ask(*forty, serve(1), add(40), outcome(0, 1), add(40), add(41))[41:], [[-7], [1], [40], [-7]])
+        self.assertEqual(ask(*forty, serve(1), add(40), outcome(0, 0), add(40), add(41))[41:], [[-7], [1], [40], [-7]])
+        self.assertEqual(ask(*forty, add(40), withdraw(7), add(40), add(41))[40:], [[-7], [39], [40], [-7]])
 
     def test_four_hundred_in_all(self):
         queue = queue_with_ended(399)

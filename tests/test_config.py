@@ -2,8 +2,7 @@
 
 import unittest
 
-from asking import FAR, add, ask, config, freeze, last, order, serve, tell, tick, window
-from agingqueue.state import Queue
+from asking import FAR, add, again, ask, config, freeze, last, order, outcome, serve, status, tick, window, withdraw
 
 
 def passes_needed(*first_calls):
@@ -73,12 +72,11 @@ class ConfigTest(unittest.TestCase):
         self.assertEqual(last(add(1), serve(1), config(3, 24)), [-8])
 
     def test_taken_where_all_items_ended(self):
-        queue = Queue()
-        tell(queue, add(1))
-        tell(queue, serve(1))
-        queue.running.remove(1)
-        queue.ended[1] = 1
-        self.assertEqual(tell(queue, config(3, 24)), [0])
+        calls = (add(1), add(2), serve(1), withdraw(2), config(5, 7), outcome(1, 1), config(5, 7), status())
+        self.assertEqual(ask(*calls)[3:], [[0], [-8], [2], [0], [5, 7, 1, 0, 0, 1, 1]])
+
+    def test_refused_where_an_item_was_put_back(self):
+        self.assertEqual(last(add(1), serve(1), again(1), config(3, 24)), [-8])
 
     def test_out_of_range_is_told_before_items(self):
         self.assertEqual(last(add(1), config(21, 24)), [-1])

@@ -29,6 +29,12 @@ WORDS = re.compile(r"\b(type|typing|typing_extensions|enum|Enum|IntEnum|StrEnum|
                    r"|ABCMeta|namedtuple|NamedTuple|TypedDict|TYPE_CHECKING|abstractmethod)\b"
                    r"|dataclass|overload|contextmanager")
 UNUSED = set("register mro elements open input version_info with_traceback add_note format format_map".split())
+NOT_AS_NAMES = set("""attrgetter breakpoint builtins compile copyright credits delattr dir eval exec exit gc getattr
+    globals hasattr help id importlib license locals methodcaller os quit setattr super type vars sys""".split())
+KEYWORDS = {"sorted": {"key", "reverse"}, "min": {"key", "default"}, "max": {"key", "default"}, "sum": {"start"},
+            "enumerate": {"start"}, "zip": {"strict"}}
+WALKED = set("zip enumerate reversed range items keys values".split())
+WALKERS = set("list tuple dict sorted sum any all enumerate zip min max join".split())
 PYTHONS_OWN = {name for kind in (str, int, list, dict, set, bytes) for name in dir(kind)}
 FREE_VALUES = set("count index title find get join lower upper split strip copy add".split())
 
@@ -42,6 +48,15 @@ def bound_in(tree):
     names += [node.arg for node in nodes(tree, ast.arg)]
     names += [node.name for node in nodes(tree, ast.FunctionDef, ast.ClassDef)]
     return names
+
+
+def called(node):
+    """The name by which a call calls, whether of a function or of a method."""
+    return node.func.id if isinstance(node.func, ast.Name) else node.func.attr
+
+
+def parents_in(tree):
+    return {child: node for node in ast.walk(tree) for child in ast.iter_child_nodes(node)}
 
 
 def methods_in(tree):
@@ -137,6 +152,55 @@ class LanguageTest(unittest.TestCase):
                 self.assertEqual(set(inner) & set(imports), set())
             for node in nodes(tree, ast.Name):
                 self.assertIn(node.id, known)
+        self.on_each_file(check)
+
+    def test_names_that_are_not_used(self):
+        def check(file, tree):
+            names = bound_in(tree) + [node.id for node in nodes(tree, ast.Name)]
+            self.assertEqual(set(names) & (NOT_AS_NAMES | UNUSED), set())
+        self.on_each_file(check)
+
+    def test_pythons_own_are_called_on_the_spot(self):
+        def check(file, tree):
+            parents = parents_in(tree)
+            for node in nodes(tree, ast.Call):
+                keywords = {keyword.arg for keyword in node.keywords}
+                self.assertLessEqual(keywords, KEYWORDS.get(called(node), set()))
+                if called(node) in WALKED:
+                    above = parents[node]
+                    walks = isinstance(above, (ast.For, ast.comprehension)) and above.iter is node
+                    self.assertTrue(walks or isinstance(above, ast.Call) and called(above) in WALKERS, ast.dump(node))
+                if called(node) in ("set", "frozenset"):
+                    above = parents[node]
+                    asked = isinstance(above, ast.Call) and called(above) in ("sorted", "len")
+                    self.assertTrue(asked or isinstance(above, (ast.Compare, ast.BinOp)), ast.dump(node))
+            for node in nodes(tree, ast.Name):
+                if node.id in BUILTINS and node.id[0].islower():
+                    above = parents[node]
+                    self.assertIsInstance(above, (ast.Call, ast.Tuple, ast.keyword))
+            for node in nodes(tree, ast.Attribute):
+                if node.attr in METHODS:
+                    above = parents[node]
+                    self.assertTrue(isinstance(above, ast.Call) and above.func is node, node.attr)
+        self.on_each_file(check)
+
+    def test_numbers_and_texts(self):
+        def check(file, tree):
+            texts = [node.value for node in nodes(tree, ast.Constant) if isinstance(node.value, str)]
+            self.assertEqual([text for text in texts if "%" in text], [])
+            self.assertEqual(nodes(tree, ast.Pow), [])
+            for node in nodes(tree, ast.FormattedValue):
+                self.assertIsInstance(node.value, ast.Name)
+                self.assertIsNone(node.format_spec)
+        self.on_each_file(check)
+
+    def test_what_a_loop_walks_is_not_changed_in_it(self):
+        def check(file, tree):
+            for loop in nodes(tree, ast.For):
+                walked = {ast.unparse(node) for node in nodes(loop.iter, ast.Name, ast.Attribute)}
+                for node in [inner for part in loop.body for inner in nodes(part, ast.Call)]:
+                    if called(node) in ("append", "clear", "extend", "insert", "pop", "remove", "reverse", "update"):
+                        self.assertNotIn(ast.unparse(node.func.value), walked)
         self.on_each_file(check)
 
     def test_methods_and_values(self):

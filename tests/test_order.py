@@ -2,9 +2,9 @@
 
 import unittest
 
-from asking import ALL, add, ask, config, freeze, land, last, order, serve, tell, tick, window
+from asking import ALL, add, ask, config, freeze, last, order, outcome, serve, tick, window, withdraw
 from agingqueue.ready import in_order
-from agingqueue.state import Item, Queue
+from agingqueue.state import Item
 
 
 def numbers_in_order(limit, *told):
@@ -32,32 +32,27 @@ class ReadyTest(unittest.TestCase):
         self.assertEqual(last(add(1), add(2, 9, 0, [1]), serve(1), order()), [0])
 
     def test_all_needs_must_have_landed(self):
-        queue = Queue()
-        for call in (add(1), add(2), add(3, 9, 0, [1, 2])):
-            tell(queue, call)
-        self.assertEqual(tell(queue, order()), [2, 1, 2])
-        land(queue, 1)
-        self.assertEqual(tell(queue, order()), [1, 2])
-        land(queue, 2)
-        self.assertEqual(tell(queue, order()), [1, 3])
+        calls = (add(1), add(2), add(3, 9, 0, [1, 2]), order(), serve(2), outcome(1, 1), order(), outcome(2, 1),
+                 order())
+        self.assertEqual(ask(*calls)[3:], [[2, 1, 2], [2, 1, 2], [1], [0], [2], [1, 3]])
+
+    def test_a_need_that_landed_before_the_item_came(self):
+        self.assertEqual(last(add(1), serve(1), outcome(1, 1), add(2, 0, 0, [1]), order()), [1, 2])
 
     def test_needs_that_ended_otherwise(self):
-        queue = Queue()
-        for call in (add(1), add(2, 0, 0, [1])):
-            tell(queue, call)
-        land(queue, 1)
-        queue.ended[1] = queue.ended[1] + 1
-        self.assertEqual(tell(queue, order()), [0])
+        self.assertEqual(last(add(1), add(2, 0, 0, [1]), serve(1), outcome(1, 0), order()), [0])
+        self.assertEqual(last(add(1), add(2, 0, 0, [1]), withdraw(1), order()), [0])
+        self.assertEqual(last(add(1), withdraw(1), add(2, 0, 0, [1]), order()), [0])
+
+    def test_one_need_landed_and_another_did_not(self):
+        start = (add(1), add(2), add(3, 0, 0, [1, 2]), serve(2), outcome(1, 1))
+        self.assertEqual(last(*start, outcome(2, 0), order()), [0])
+        self.assertEqual(last(*start, outcome(2, 1), order()), [1, 3])
 
     def test_landed_needs_do_not_lift_a_freeze_or_a_window(self):
         for call in (freeze(2), freeze(ALL), window(2, 5, 6)):
             with self.subTest(call=call):
-                queue = Queue()
-                tell(queue, add(1))
-                tell(queue, add(2, 0, 2, [1]))
-                land(queue, 1)
-                tell(queue, call)
-                self.assertEqual(tell(queue, order()), [0])
+                self.assertEqual(last(add(1), add(2, 0, 2, [1]), serve(1), outcome(1, 1), call, order()), [0])
 
     def test_forty_ready(self):
         forty = [add(number) for number in range(40)]

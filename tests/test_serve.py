@@ -2,15 +2,8 @@
 
 import unittest
 
-from asking import ALL, FAR, add, ask, config, freeze, last, order, serve, snapshot, tell, thaw, tick, window
-from agingqueue.state import Queue
-
-
-def queue_after(*calls):
-    queue = Queue()
-    for call in calls:
-        tell(queue, call)
-    return queue
+from asking import (ALL, FAR, add, ask, config, freeze, last, order, queue_after, serve, snapshot, tell, thaw, tick,
+                    window)
 
 
 def passed(*calls):
